@@ -64,27 +64,35 @@ def middle_piece(size, out):
     return sorted([middle[quarter] for quarter in range(4) if quarter != quarter_out])
 
 
-def left_out_of_quarter(size, out, place):
-    """Tell which place is left out of the quarter that a place is in, of a part of a size."""
-    quarter = quarter_of(size, place)
+def left_out_of_quarter(size, out, quarter):
+    """Tell which place is left out of a quarter of the part of a size with a place left out."""
     if quarter == quarter_of(size, out):
         return out
-    return middle_places(size, place)[quarter]
+    return middle_places(size, out)[quarter]
 
 
-def piece(size, out, place):
-    """List, rising, the three places of the piece that covers a place."""
+def check_covered(size, out, place):
+    """Refuse what is no size, no place left out, or no place that a piece covers."""
     check_size(size)
     check_place(size, out)
     check_place(size, place)
     if place == out:
         raise BadPlace("the place that is left out is covered by no piece")
+
+
+def covering_part(size, out, place):
+    """Tell the size, and the place left out, of the part whose middle piece covers a place."""
     part_size = size
     part_out = out
-    told = middle_piece(part_size, part_out)
     # The place is never the one left out of its part, so this ends at size 1.
-    while place not in told:
-        part_out = left_out_of_quarter(part_size, part_out, place)
+    while place not in middle_piece(part_size, part_out):
+        part_out = left_out_of_quarter(part_size, part_out, quarter_of(part_size, place))
         part_size -= 1
-        told = middle_piece(part_size, part_out)
-    return told
+    return part_size, part_out
+
+
+def piece(size, out, place):
+    """List, rising, the three places of the piece that covers a place."""
+    check_covered(size, out, place)
+    part_size, part_out = covering_part(size, out, place)
+    return middle_piece(part_size, part_out)

@@ -4,24 +4,7 @@ import unittest
 import reference
 from cornerfloor import floors
 from cornerfloor.floors import piece
-
-
-def places_of(size):
-    side = 2 ** size
-    return [(column, row) for column in range(side) for row in range(side)]
-
-
-def drawn(picture):
-    """The left out place and the pieces of a drawn floor, row 0 first: a letter a piece, a dot left out."""
-    out = None
-    pieces = {}
-    for row, line in enumerate(picture):
-        for column, letter in enumerate(line):
-            if letter == ".":
-                out = (column, row)
-            else:
-                pieces.setdefault(letter, []).append((column, row))
-    return out, [sorted(told) for told in pieces.values()]
+from reference import drawn, near, places_of, some_places
 
 
 class InterfaceTest(unittest.TestCase):
@@ -95,60 +78,12 @@ class ByHandTest(unittest.TestCase):
                 self.assertEqual(piece(1, out, place), others)
 
     def test_size_two(self):
-        self.assert_as_drawn(2, (
-            ".bcc",
-            "bbac",
-            "daae",
-            "ddee",
-        ))
-        self.assert_as_drawn(2, (
-            "bbcc",
-            "b.ac",
-            "daae",
-            "ddee",
-        ))
-        self.assert_as_drawn(2, (
-            "bbc.",
-            "bacc",
-            "daae",
-            "ddee",
-        ))
-        self.assert_as_drawn(2, (
-            "bbcc",
-            "baac",
-            "d.ae",
-            "ddee",
-        ))
-        self.assert_as_drawn(2, (
-            "bbcc",
-            "baac",
-            "daee",
-            "dde.",
-        ))
+        for picture in reference.SIZE_TWO:
+            self.assert_as_drawn(2, picture)
 
     def test_size_three(self):
-        self.assert_as_drawn(3, (
-            "ccddhhii",
-            "cbbdhggi",
-            "ebffj.gk",
-            "eefajjkk",
-            "mmnaarss",
-            "mlnnrrqs",
-            "ollptqqu",
-            "ooppttuu",
-        ))
-
-    def test_size_three_with_a_corner_left_out(self):
-        self.assert_as_drawn(3, (
-            ".cddhhii",
-            "ccbdhggi",
-            "ebbfjjgk",
-            "eeffajkk",
-            "mmnaarss",
-            "mlnnrrqs",
-            "ollptqqu",
-            "ooppttuu",
-        ))
+        for picture in reference.SIZE_THREE:
+            self.assert_as_drawn(3, picture)
 
     def test_places_that_are_not_symmetric(self):
         self.assertEqual(piece(1, (1, 0), (0, 1)), [(0, 0), (0, 1), (1, 1)])
@@ -192,25 +127,6 @@ class GreatFloorsTest(unittest.TestCase):
     SIDE = 2 ** 400
     HALF = 2 ** 399
 
-    def some_places(self, size, many):
-        """Places spread over a floor, the same in each run."""
-        side = 2 ** size
-        found = []
-        number = 7
-        for _ in range(many):
-            number = (number * 3 ** 500 + 12345) % 2 ** 1000
-            found.append(((number >> 100) % side, (number >> 550) % side))
-        return found
-
-    def near(self, size, place):
-        side = 2 ** size
-        return [
-            (place[0] + right, place[1] + up)
-            for right in range(-3, 4)
-            for up in range(-3, 4)
-            if 0 <= place[0] + right < side and 0 <= place[1] + up < side
-        ]
-
     def assert_by_the_rule(self, size, out, places):
         for place in places:
             if place != out:
@@ -245,7 +161,7 @@ class GreatFloorsTest(unittest.TestCase):
         )
 
     def test_beside_the_place_left_out(self):
-        for out in self.some_places(400, 20):
+        for out in some_places(400, 20):
             column, row = out[0] - out[0] % 2, out[1] - out[1] % 2
             square = [(column, row), (column, row + 1), (column + 1, row), (column + 1, row + 1)]
             others = [place for place in square if place != out]
@@ -257,21 +173,21 @@ class GreatFloorsTest(unittest.TestCase):
             last = 2 ** size - 1
             half = 2 ** (size - 1)
             spots = [(0, 0), (last, 0), (0, last), (last, last), (half, half), (half // 2, half - 1)]
-            outs = spots + self.some_places(size, 2)
+            outs = spots + some_places(size, 2)
             for out in outs:
-                places = self.some_places(size, 3) + spots
+                places = some_places(size, 3) + spots
                 places += [(out[0], out[1] ^ 1), (out[1], out[0]), (half - 1, half)]
                 self.assert_by_the_rule(size, out, places)
 
     def test_all_places_near_some_spots_of_the_greatest_floor(self):
-        out = self.some_places(400, 1)[0]
+        out = some_places(400, 1)[0]
         last = self.SIDE - 1
         for spot in (out, (0, 0), (last, last), (last, 0), (0, last), (self.HALF, self.HALF)):
-            self.assert_by_the_rule(400, out, self.near(400, spot))
+            self.assert_by_the_rule(400, out, near(400, spot))
 
     def test_the_same_of_each_of_its_three_places(self):
         out = (self.HALF + 12345, 6789)
-        for place in self.some_places(400, 100):
+        for place in some_places(400, 100):
             told = piece(400, out, place)
             self.assertIn(place, told)
             self.assertEqual(len(told), 3)
@@ -280,7 +196,7 @@ class GreatFloorsTest(unittest.TestCase):
 
     def test_many_are_told(self):
         # A way that went over the places or the pieces would not end.
-        places = self.some_places(400, 1000)
+        places = some_places(400, 1000)
         out = (1, self.HALF)
         self.assertEqual(len([piece(400, out, place) for place in places if place != out]), 1000)
 
